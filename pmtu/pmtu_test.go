@@ -173,8 +173,8 @@ func TestGetAtEveryFirst(t *testing.T) {
 	}
 }
 
-// Each mtu, and over IPv4 with an mtu of 0 each length, as the one message that a new cache hears.
-func TestHearAtEveryNumber(t *testing.T) {
+// Each mtu up to 3000 and some above, and so each length with an mtu of 0, as the one message that a new cache hears.
+func TestHearAtManyNumbers(t *testing.T) {
 	for _, first := range []int{1280, 1281, 1500, 65535} {
 		for _, dst := range []api.Addr{four(1), six(1)} {
 			for n := -70; n <= 65600; n += 1 + max(0, n-3000)/400 {
