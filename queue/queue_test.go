@@ -157,9 +157,10 @@ func TestTooLong(t *testing.T) {
 }
 
 func TestSumsNeverWrap(t *testing.T) {
-	// 1 << 62 twice is one above the greatest int.
+	// 1 << 62 twice is one above the greatest int: the second does not fit, nor does the third.
 	q := made(t, 64, math.MaxInt)
 	pushes(t, q, 1<<62, true)
+	pushes(t, q, 1<<62, false)
 	pushes(t, q, 1<<62, false)
 	pushes(t, q, math.MaxInt, false)
 	holds(t, q, 1, 1<<62)
