@@ -76,11 +76,17 @@ func (f *flight) recut(k, mtu int) api.Errno {
 	return api.OK
 }
 
-// copied is the flight in memory of its own.
+// copied is the flight in memory of its own: one piece of memory for all packets, each cut off behind its bytes, since a long flight is asked for again and again.
 func (f *flight) copied() []Way {
-	var l []Way
+	size := 0
 	for _, x := range f.ways {
-		l = append(l, Way{Node: x.Node, Bytes: bytes.Clone(x.Bytes)})
+		size += len(x.Bytes)
+	}
+	all, l := make([]byte, 0, size), make([]Way, 0, len(f.ways))
+	for _, x := range f.ways {
+		from := len(all)
+		all = append(all, x.Bytes...)
+		l = append(l, Way{Node: x.Node, Bytes: all[from:len(all):len(all)]})
 	}
 	return l
 }
